@@ -1,0 +1,33 @@
+"""The cheapest flight.
+
+An offer is a dict of the boats that one crew may have, each with its cost there. Offers stand in the
+order of the due crews; a flight is a list of boats in the same order.
+"""
+
+
+def cheapest_flight(offers):
+    """The least cost and the first flight that costs it, as a pair; None if there is no flight."""
+    found = {0: (0, [])}
+    for offer in offers:
+        found = with_next_crew(found, offer)
+    if not found:
+        return None
+    return min(found.values())
+
+
+def with_next_crew(found, offer):
+    """found holds, by the boats taken (a bit for each), the best beginning of a flight that takes them.
+
+    One beginning for each such choice is enough: what can follow depends on the boats taken alone, so
+    the best beginning stays the best with whatever follows.
+    """
+    longer = {}
+    for taken, beginning in found.items():
+        for boat, cost in offer.items():
+            if taken & (1 << boat):
+                continue
+            now_taken = taken | (1 << boat)
+            candidate = (beginning[0] + cost, beginning[1] + [boat])
+            if now_taken not in longer or candidate < longer[now_taken]:
+                longer[now_taken] = candidate
+    return longer
