@@ -3,18 +3,26 @@
 A call is handed its whole numbers as one list; a call with a row is handed the row.
 """
 
-from flightplans.flights import cheapest_flight
+from flightplans.fares import boat_prices, due_fares, proven
+from flightplans.flights import cheapest_flight, first_flight
 from flightplans.lacks import blocked_crews, boats_of, worst_lack
+from flightplans.rests import can_sail, first_safe_flight, most_flights, plan_of
 
 DONE = 0
 NO_CREW = -1
 OUT_OF_RANGE = -2
+WRONG_ROW = -3
 NO_BOAT = -4
 REPEATED = -5
+NONE_SAILED = -6
 NO_FLIGHT = -7
+ALL_SAILED = -8
 
 MOST_OF_EACH = 7
 HIGHEST_COST = 1000
+HIGHEST_PRICE = 1000000
+MOST_ASKED = 20
+MOST_SAILED = 20
 
 
 def begin(fleet, numbers):
@@ -82,18 +90,92 @@ def blocked(fleet, numbers):
 
 
 def first(fleet, numbers):
-    # Where no boat costs anything all flights cost the same, so the cheapest one is the first.
-    found = cheapest_flight([free_offer(fleet, crew) for crew in fleet.due_crews])
-    if found is None:
-        return [NO_FLIGHT]
-    return counted(found[1])
+    return flight_answer(first_flight(fleet.due_offers()))
 
 
 def best(fleet, numbers):
-    found = cheapest_flight([priced_offer(fleet, crew) for crew in fleet.due_crews])
+    return priced_answer(cheapest(fleet))
+
+
+def prices(fleet, numbers):
+    found = cheapest(fleet)
     if found is None:
         return [NO_FLIGHT]
-    return [found[0]] + counted(found[1])
+    told = boat_prices(fleet, found[1])
+    return counted(told) + counted(due_fares(fleet, told))
+
+
+def check(fleet, row):
+    if len(row) != fleet.boats or not all([0 <= price <= HIGHEST_PRICE for price in row]):
+        return [WRONG_ROW]
+    proof = proven(fleet, row)
+    if proof is None:
+        return [0]
+    return [1, proof]
+
+
+def rest(fleet, numbers):
+    if not 0 <= numbers[0] <= MOST_ASKED:
+        return [OUT_OF_RANGE]
+    return [1 if can_sail(fleet.due_offers(), numbers[0]) else 0]
+
+
+def most(fleet, numbers):
+    return [most_flights(fleet.due_offers())]
+
+
+def safe(fleet, numbers):
+    if not 1 <= numbers[0] <= MOST_ASKED:
+        return [OUT_OF_RANGE]
+    return flight_answer(first_safe_flight(fleet.due_offers(), numbers[0]))
+
+
+def plan(fleet, numbers):
+    if not 1 <= numbers[0] <= MOST_ASKED:
+        return [OUT_OF_RANGE]
+    flights = plan_of(fleet.due_offers(), numbers[0])
+    if flights is None:
+        return [NO_FLIGHT]
+    answer = [len(flights)]
+    for flight in flights:
+        answer.extend(counted(flight))
+    return answer
+
+
+def sail(fleet, row):
+    if not is_flight(fleet, row):
+        return [WRONG_ROW]
+    if len(fleet.sailed) == MOST_SAILED:
+        return [ALL_SAILED]
+    fleet.sail(row)
+    return [len(fleet.sailed)]
+
+
+def back(fleet, numbers):
+    if not fleet.sailed:
+        return [NONE_SAILED]
+    fleet.unsail()
+    return [len(fleet.sailed)]
+
+
+def log(fleet, numbers):
+    answer = [len(fleet.sailed)]
+    for pairs in fleet.sailed:
+        answer.append(len(pairs))
+        for crew, boat in pairs:
+            answer.extend([crew, boat])
+    return answer
+
+
+def repair(fleet, row):
+    if len(row) != len(fleet.due_crews) or not all([fleet.has_boat(boat) for boat in row]):
+        return [WRONG_ROW]
+    offers = [moving_offer(boats, told) for boats, told in zip(fleet.due_offers(), row)]
+    return priced_answer(cheapest_flight(offers))
+
+
+def counts(fleet, numbers):
+    return [fleet.crews, fleet.boats, len(fleet.due_crews), fleet.boats_out.count(False), len(fleet.sailed)]
 
 
 def pair_refusal(fleet, crew, boat):
@@ -115,12 +197,36 @@ def mark_pair(fleet, crew, boat, refused):
     return [DONE]
 
 
-def free_offer(fleet, crew):
-    return dict([(boat, 0) for boat in fleet.boats_for(crew)])
+def is_flight(fleet, row):
+    if len(row) != len(fleet.due_crews) or len(set(row)) != len(row):
+        return False
+    return all([boat in offer for boat, offer in zip(row, fleet.due_offers())])
+
+
+def cheapest(fleet):
+    return cheapest_flight([priced_offer(fleet, crew) for crew in fleet.due_crews])
 
 
 def priced_offer(fleet, crew):
     return dict([(boat, fleet.costs[crew][boat]) for boat in fleet.boats_for(crew)])
+
+
+def moving_offer(boats, told):
+    """The boats, each at a cost of 1 but the one told: so a flight costs as many as it moves."""
+    return dict([(boat, 0 if boat == told else 1) for boat in boats])
+
+
+def flight_answer(flight):
+    if flight is None:
+        return [NO_FLIGHT]
+    return counted(flight)
+
+
+def priced_answer(found):
+    """The answer for a pair of a cost and a flight, or for None where there is no flight."""
+    if found is None:
+        return [NO_FLIGHT]
+    return [found[0]] + counted(found[1])
 
 
 def counted(numbers):
@@ -128,7 +234,8 @@ def counted(numbers):
 
 
 # By the calls' numbers.
-CALLS = (begin, refuse, let, cost, out, due, may, size, blocked, first, best)
+CALLS = (begin, refuse, let, cost, out, due, may, size, blocked, first, best, prices, check, rest, most, safe,
+         plan, sail, back, log, repair, counts)
 
 
 def answer_call(fleet, number, numbers):

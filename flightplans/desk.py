@@ -4,9 +4,9 @@ from flightplans.calls import answer_call
 from flightplans.fleet import Fleet
 
 # By the calls' numbers: how many whole numbers stand behind the call's own.
-WHOLE_NUMBERS = (2, 2, 2, 3, 2, 0, 2, 0, 0, 0, 0)
+WHOLE_NUMBERS = (2, 2, 2, 3, 2, 0, 2, 0, 0, 0, 0, 0, 0, 1, 0, 1, 1, 0, 0, 0, 0, 0)
 # The calls with a row, which has its length ahead.
-WITH_ROW = (5,)
+WITH_ROW = (5, 12, 17, 20)
 
 
 def answers(calls):

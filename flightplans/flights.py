@@ -1,12 +1,27 @@
-"""The cheapest flight.
+"""The first flight and the cheapest one.
 
-An offer is a dict of the boats that one crew may have, each with its cost there. Offers stand in the
-order of the due crews; a flight is a list of boats in the same order.
+What each due crew is offered stands in the order of the crews; a flight is a list of boats in the same order.
 """
 
 
+def first_flight(offers):
+    """The first flight, where an offer is a list of boats; None if there is no flight."""
+    # Where no boat costs anything all flights cost the same, so the cheapest one is the first.
+    found = cheapest_flight([free(offer) for offer in offers])
+    if found is None:
+        return None
+    return found[1]
+
+
+def free(boats):
+    return dict([(boat, 0) for boat in boats])
+
+
 def cheapest_flight(offers):
-    """The least cost and the first flight that costs it, as a pair; None if there is no flight."""
+    """The least cost and the first flight that costs it, as a pair; None if there is no flight.
+
+    An offer is a dict here: boats with their costs.
+    """
     found = {0: (0, [])}
     for offer in offers:
         found = with_next_crew(found, offer)

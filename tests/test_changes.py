@@ -2,23 +2,11 @@
 
 import unittest
 
-from lines import (BEGIN, BEST, BLOCKED, COST, FIRST, HIGHEST, LET, LOWEST, MAY, OUT, REFUSE, SIZE,
+from lines import (BEGIN, BEST, BLOCKED, COST, FIRST, HIGHEST, LET, LOWEST, MAY, OUT, REFUSE, SIZE, TOLD, LineTest,
                    ask, behind, due, last, probe)
 
-# Three crews and three boats, with something told of each sort.
-TOLD = [(BEGIN, 3, 3), (REFUSE, 0, 0), (REFUSE, 2, 1), (COST, 0, 1, 5), (COST, 1, 0, 7), (COST, 2, 2, 1000),
-        (OUT, 2, 1), due(0, 1)]
 
-
-class Changes(unittest.TestCase):
-    def refused(self, number, *call):
-        """The call is refused by this number alone, and all is as if it had not been there."""
-        probes = probe(3, 3)
-        self.assertEqual(behind(TOLD, [call])[0], [number])
-        self.assertEqual(behind(TOLD + [call], probes), behind(TOLD, probes))
-
-
-class Begin(Changes):
+class Begin(LineTest):
     def test_answers_nought_for_all_sizes(self):
         for crews in range(1, 8):
             for boats in range(1, 8):
@@ -56,7 +44,7 @@ class Begin(Changes):
         self.assertEqual(ask((BEGIN, 8, 1), (MAY, 0, 0), (OUT, 0, 1), (FIRST,)), [[-2], [-1], [-4], [0]])
 
 
-class RefuseAndLet(Changes):
+class RefuseAndLet(LineTest):
     def test_refuse_is_of_the_one_pair(self):
         given = ask((BEGIN, 2, 2), (REFUSE, 0, 1), (MAY, 0, 0), (MAY, 0, 1), (MAY, 1, 0), (MAY, 1, 1))
         self.assertEqual(given, [[0], [0], [1], [0], [1], [1]])
@@ -106,7 +94,7 @@ class RefuseAndLet(Changes):
                     self.refused(-4, call, 2, boat)
 
 
-class Cost(Changes):
+class Cost(LineTest):
     def test_is_of_the_one_pair(self):
         told = [(BEGIN, 2, 2), (COST, 0, 1, 9)]
         for crew, boat, cost in ((0, 0, 0), (0, 1, 9), (1, 0, 0), (1, 1, 0)):
@@ -144,7 +132,7 @@ class Cost(Changes):
             self.refused(-4, COST, 2, boat, -1)
 
 
-class Out(Changes):
+class Out(LineTest):
     def test_is_of_the_one_boat_and_of_all_crews(self):
         given = ask((BEGIN, 2, 2), (OUT, 1, 1), (MAY, 0, 0), (MAY, 0, 1), (MAY, 1, 0), (MAY, 1, 1))
         self.assertEqual(given, [[0], [0], [1], [0], [1], [0]])
@@ -176,7 +164,7 @@ class Out(Changes):
                     self.refused(-4, OUT, boat, v)
 
 
-class Due(Changes):
+class Due(LineTest):
     def test_answers_how_many(self):
         for crews in range(1, 8):
             self.assertEqual(ask((BEGIN, 7, 7), due(*range(crews))), [[0], [crews]])

@@ -3,15 +3,7 @@
 import unittest
 
 from lines import (BEGIN, BEST, BLOCKED, COST, FIRST, HIGHEST, LET, LOWEST, MAY, OUT, REFUSE, SIZE,
-                   ask, behind, due, last, only, probe)
-
-
-def costs(*rows):
-    return [(COST, crew, boat, n) for crew, row in enumerate(rows) for boat, n in enumerate(row)]
-
-
-def all_out(boats):
-    return [(OUT, boat, 1) for boat in range(boats)]
+                   all_out, ask, behind, costs, due, last, only, probe)
 
 
 class May(unittest.TestCase):
